@@ -213,7 +213,7 @@ func TestWhatIsToldIsMadeAnew(t *testing.T) {
 	r := numbers()
 	params(func(x api.Params) {
 		count := x.K + x.M
-		for _, have := range [][]bool{allThere(x), there(count, order(x.K)...), there(count, r.Perm(count)[x.M:]...)} {
+		for _, have := range [][]bool{allThere(x), there(count, upTo(x.K)...), there(count, r.Perm(count)[x.M:]...)} {
 			for way := range 3 {
 				shards, b := room(someShards(r, count, 16)), room(someShards(r, 1, 16))[0]
 				anew(t, x, shards, b, ways(t, x, shards, have, r.Intn(x.K), b)[way])

@@ -152,12 +152,12 @@ func TestRebuildOfJustEnough(t *testing.T) {
 		told(t, "all", x, whole, allThere(x), whole)
 		refused(t, "none", x, whole, make([]bool, count), api.ErrFew)
 		refused(t, "nothing at all", x, make([][]byte, count), make([]bool, count), api.ErrFew)
-		refused(t, "the first K - 1", x, whole, there(count, order(x.K-1)...), api.ErrFew)
+		refused(t, "the first K - 1", x, whole, there(count, upTo(x.K-1)...), api.ErrFew)
 	})
 }
 
-// order is the numbers from 0 to below n.
-func order(n int) []int {
+// upTo is the numbers from 0 to below n.
+func upTo(n int) []int {
 	list := make([]int, n)
 	for i := range list {
 		list[i] = i
@@ -352,7 +352,7 @@ func TestRebuildOfAnOddNumberOfBytes(t *testing.T) {
 	params(func(x api.Params) {
 		count := x.K + x.M
 		for _, n := range []int{1, 3, 7, 1001} {
-			for _, have := range [][]bool{allThere(x), there(count, order(x.K)...), there(count, r.Perm(count)[:x.K]...)} {
+			for _, have := range [][]bool{allThere(x), there(count, upTo(x.K)...), there(count, r.Perm(count)[:x.K]...)} {
 				if x.P == api.JC {
 					refused(t, "odd", x, someShards(r, count, n), have, api.ErrArg)
 					refused(t, "odd noughts", x, slices.Repeat([][]byte{make([]byte, n)}, count), have, api.ErrArg)

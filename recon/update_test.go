@@ -78,9 +78,9 @@ func TestUpdateOfAnyShards(t *testing.T) {
 			b := some(r, 6)
 			want := cloned(shards)
 			want[i] = b
-			for row, numbers := range slowRows(t, x) {
-				addTimes(x.P, want[x.K+row], numbers[i], shards[i])
-				addTimes(x.P, want[x.K+row], numbers[i], b)
+			for place, row := range slowRows(t, x) {
+				addTimes(x.P, want[x.K+place], row[i], shards[i])
+				addTimes(x.P, want[x.K+place], row[i], b)
 			}
 			if got := updated(t, x, shards, i, b); !same(got, want) {
 				t.Fatalf("Update(%+v) of the shard %d: %v, not %v", x, i, got, want)
